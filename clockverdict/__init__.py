@@ -1,0 +1,1 @@
+"""Clockverdict: clocks that lie, and the time that all records leave."""
