@@ -109,24 +109,20 @@ def rational_text(a):
     return str(n) if d == 1 else f"{n}/{d}"
 
 
-def _is_plain_number(text):
-    if not text or len(text) > _MOST_DIGITS:
-        return False
-    if text[0] == "0" and text != "0":
-        return False
-    return all([sign in _DIGITS for sign in text])
+def _is_row_of_digits(text):
+    return 1 <= len(text) <= _MOST_DIGITS and all([sign in _DIGITS for sign in text])
 
 
 def read_rational(text):
     """The rational with this written form, of at most nine digits above and below."""
     above, bar, below = text.partition("/")
     digits = above[1:] if above.startswith("-") else above
-    if not _is_plain_number(digits):
+    if not _is_row_of_digits(digits):
         raise BadNumber(text)
-    if bar and not _is_plain_number(below):
+    if bar and not _is_row_of_digits(below):
         raise BadNumber(text)
     value = (int(above), int(below) if bar else 1)
-    # Only the written form itself gives its text back: no -0, no 2/4, no 3/1.
+    # Only the written form itself gives its text back: no -0, no 07, no 2/4, no 3/1.
     if not is_rational(value) or rational_text(value) != text:
         raise BadNumber(text)
     return value

@@ -272,6 +272,17 @@ class CertificateTest(unittest.TestCase):
                 check_judge(self, judge, plain, list(spoiled(value)) + [value])
                 self.assertIs(is_span_certificate(COUNT, FALSE, moment, value), False)
 
+    def test_the_claims_of_a_liar_show_nothing(self):
+        claims = [(0, 1, (5, 1), "a"), (0, 1, (5, 1), "b"), (1, 0, (-3, 1), "b"), (1, 0, (-3, 1), "a")]
+        high, low = [(0, 1), (5, 1)], [(0, 1), (3, 1)]
+        for above, below, liars, wanted in [
+            ([1], [2], ["a"], True), ([0], [2], ["a"], False), ([1], [3], ("a",), False), ([0], [3], ("b",), True),
+            ([0], [2], (), True), ([1, 2, 1, 2, 1], [2], ["a"], False),
+        ]:
+            value = (((3, 1), (5, 1)), ("way", above, high), ("way", below, low))
+            self.assertEqual(plain_certificate(2, claims, 1, value, liars), wanted)
+            self.assertIs(is_span_certificate(2, claims, 1, value, liars=liars), wanted)
+
     def test_claims_that_no_world_fits(self):
         for moment in range(COUNT):
             value = span_certificate(COUNT, CLAIMS, moment)
