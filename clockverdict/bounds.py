@@ -12,7 +12,7 @@ def _require_moment(count, moment):
         raise UnknownMoment(moment)
 
 
-def _require_world(count, claims, liars):
+def _fitting_world(count, claims, liars):
     """A world that fits; raises NoWorld if there is none."""
     kind, found = settle(count, claims, liars=liars)
     if kind == "ring":
@@ -24,7 +24,7 @@ def least_bound(count, claims, start, goal, *, liars=()):
     """The least sum of a way from start to goal, or None."""
     _require_moment(count, start)
     _require_moment(count, goal)
-    _require_world(count, claims, liars)
+    _fitting_world(count, claims, liars)
     sums, _ = search_from(count, claims, liars, start)
     return sums[goal]
 
@@ -33,29 +33,24 @@ def bound_way(count, claims, start, goal, *, liars=()):
     """A way from start to goal with the least sum, or None."""
     _require_moment(count, start)
     _require_moment(count, goal)
-    _require_world(count, claims, liars)
+    _fitting_world(count, claims, liars)
     sums, came = search_from(count, claims, liars, start)
     return None if sums[goal] is None else way_behind(claims, came, goal)
-
-
-def _span_found(count, claims, moment, liars):
-    """The narrowest span of a moment, where a world fits."""
-    above, _ = search_from(count, claims, liars, 0)
-    below, _ = search_from(count, claims, liars, moment)
-    return (None if below[0] is None else negate(below[0]), above[moment])
 
 
 def narrowest(count, claims, moment, *, liars=()):
     """The narrowest span of the moment."""
     _require_moment(count, moment)
-    _require_world(count, claims, liars)
-    return _span_found(count, claims, moment, liars)
+    _fitting_world(count, claims, liars)
+    above, _ = search_from(count, claims, liars, 0)
+    below, _ = search_from(count, claims, liars, moment)
+    return (None if below[0] is None else negate(below[0]), above[moment])
 
 
 def _world_with(count, claims, moment, at, liars):
     """A world that fits and has the moment at a time of its narrowest span."""
     fixed = claims + [(0, moment, at, ""), (moment, 0, negate(at), "")]
-    return _require_world(count, fixed, liars)
+    return _fitting_world(count, fixed, liars)
 
 
 def world_at(count, claims, moment, at, *, liars=()):
@@ -80,7 +75,7 @@ def span_certificate(count, claims, moment, *, liars=()):
     for start, goal, end in ((0, moment, high), (moment, 0, low)):
         kind, proof = _side(count, claims, start, goal, liars)
         if end is None:
-            world = _require_world(count, claims, liars)
+            world = _fitting_world(count, claims, liars)
         else:
             world = _world_with(count, claims, moment, end, liars)
         sides.append((kind, proof, world))
@@ -135,5 +130,5 @@ def is_span_certificate(count, claims, moment, value, *, liars=()):
 
 def all_bounds(count, claims, *, liars=()):
     """Item b of list a is the least bound from moment a to moment b."""
-    _require_world(count, claims, liars)
+    _fitting_world(count, claims, liars)
     return [search_from(count, claims, liars, start)[0] for start in range(count)]
