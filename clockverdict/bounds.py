@@ -7,7 +7,8 @@ from clockverdict.spans import is_span, span_holds
 from clockverdict.worlds import is_way, is_world, settle, way_sum
 
 
-def _require_moment(count, moment):
+def require_moment(count, moment):
+    """Raises UnknownMoment for a moment that is not from 0 to count - 1."""
     if moment < 0 or moment >= count:
         raise UnknownMoment(moment)
 
@@ -22,8 +23,8 @@ def _fitting_world(count, claims, liars):
 
 def least_bound(count, claims, start, goal, *, liars=()):
     """The least sum of a way from start to goal, or None."""
-    _require_moment(count, start)
-    _require_moment(count, goal)
+    require_moment(count, start)
+    require_moment(count, goal)
     _fitting_world(count, claims, liars)
     sums, _ = search_from(count, claims, liars, start)
     return sums[goal]
@@ -31,8 +32,8 @@ def least_bound(count, claims, start, goal, *, liars=()):
 
 def bound_way(count, claims, start, goal, *, liars=()):
     """A way from start to goal with the least sum, or None."""
-    _require_moment(count, start)
-    _require_moment(count, goal)
+    require_moment(count, start)
+    require_moment(count, goal)
     _fitting_world(count, claims, liars)
     sums, came = search_from(count, claims, liars, start)
     return None if sums[goal] is None else way_behind(claims, came, goal)
@@ -40,11 +41,19 @@ def bound_way(count, claims, start, goal, *, liars=()):
 
 def narrowest(count, claims, moment, *, liars=()):
     """The narrowest span of the moment."""
-    _require_moment(count, moment)
+    require_moment(count, moment)
     _fitting_world(count, claims, liars)
     above, _ = search_from(count, claims, liars, 0)
     below, _ = search_from(count, claims, liars, moment)
     return (None if below[0] is None else negate(below[0]), above[moment])
+
+
+def span_if_fits(count, claims, moment, liars):
+    """The narrowest span of the moment, or None if no world fits."""
+    try:
+        return narrowest(count, claims, moment, liars=liars)
+    except NoWorld:
+        return None
 
 
 def _world_with(count, claims, moment, at, liars):

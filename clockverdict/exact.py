@@ -1,6 +1,6 @@
 """Rationals: tuples (n, d) in lowest terms with d at least 1, and exact sums with them."""
 
-from math import gcd
+from math import gcd, lcm
 
 from clockverdict.errors import BadNumber, ZeroDivisor
 
@@ -96,6 +96,20 @@ def total(*parts):
     for part in parts:
         result = add(result, part)
     return result
+
+
+def weights_of(values):
+    """The values times one common factor above zero, as integers."""
+    factor = 1
+    for n, d in values:
+        factor = lcm(factor, d)
+    return [n * (factor // d) for n, d in values]
+
+
+def order_of(values):
+    """The indexes of the values from the least value to the greatest, those of equal values ascending."""
+    ranked = sorted([(weight, at) for at, weight in enumerate(weights_of(values))])
+    return [at for weight, at in ranked]
 
 
 def floor_of(a):

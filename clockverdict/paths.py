@@ -1,21 +1,13 @@
 """Least sums of ways through a list of claims, found by rounds of relaxing."""
 
-from math import lcm
-
-from clockverdict.exact import ZERO, add
+from clockverdict.exact import ZERO, add, weights_of
 
 
 def _steps_of(claims, liars):
     """Tuples (a, b, weight, index) of all live claims; the weights are w times one common factor."""
     live = [at for at, claim in enumerate(claims) if claim[3] not in liars]
-    factor = 1
-    for at in live:
-        factor = lcm(factor, claims[at][2][1])
-    found = []
-    for at in live:
-        a, b, (n, d), owner = claims[at]
-        found.append((a, b, n * (factor // d), at))
-    return found
+    weights = weights_of([claims[at][2] for at in live])
+    return [(claims[at][0], claims[at][1], weight, at) for at, weight in zip(live, weights)]
 
 
 def _relaxed(count, steps, begun):

@@ -6,7 +6,7 @@ import unittest
 from clockverdict import exact
 from clockverdict.errors import BadNumber, ZeroDivisor
 from clockverdict.exact import (add, compare, distance, divide, floor_of, is_rational, larger, multiply, negate,
-                                rational, rational_text, read_rational, smaller, subtract, total)
+                                order_of, rational, rational_text, read_rational, smaller, subtract, total, weights_of)
 from tests.support import (ODD_VALUES, caught, check_judge, fraction, plain_rational, rat, some_rational, spoiled,
                            unchanged)
 
@@ -122,6 +122,23 @@ class RationalTest(unittest.TestCase):
         for a in samples():
             whole = floor_of(a)
             self.assertTrue(whole <= fraction(a) < whole + 1)
+
+    def test_weights_are_the_values_times_one_factor(self):
+        values = samples()[:9]
+        weights = unchanged(self, weights_of, values)
+        factor = weights[1]
+        self.assertGreater(factor, 0)
+        for value, weight in zip(values, weights):
+            self.assertIs(type(weight), int)
+            self.assertEqual(fraction(value) * factor, weight)
+        self.assertEqual(weights_of([]), [])
+
+    def test_order_by_value_and_then_by_index(self):
+        values = samples()
+        order = unchanged(self, order_of, values)
+        self.assertEqual(order, sorted(range(len(values)), key=lambda at: (fraction(values[at]), at)))
+        self.assertEqual(order_of([(1, 2), (1, 3), (1, 2), (-1, 2), (1, 3)]), [3, 1, 4, 0, 2])
+        self.assertEqual(order_of([]), [])
 
     def test_constants_are_rationals(self):
         for value, wanted in [(exact.ZERO, 0), (exact.ONE, 1), (exact.HALF, rat(1, 2))]:

@@ -13,11 +13,12 @@ FILES = sorted(PACKAGE.glob("*.py"))
 LIBRARY = {
     "heapq": {"heappush", "heappop", "heapify", "heapreplace", "heappushpop"},
     "math": {"gcd", "lcm", "isqrt", "comb", "perm", "factorial"},
+    "itertools": {"product", "combinations", "permutations"},
 }
 
 BUILTINS = set(
     "len range enumerate zip min max sum abs sorted reversed int str bool list tuple dict set isinstance ord repr "
-    "any all divmod Exception ValueError TypeError KeyError IndexError LookupError ZeroDivisionError "
+    "any all divmod iter Exception ValueError TypeError KeyError IndexError LookupError ZeroDivisionError "
     "ArithmeticError OverflowError RuntimeError NotImplementedError NotImplemented map".split())
 
 METHODS = set(
@@ -258,6 +259,46 @@ class FormTest(unittest.TestCase):
             for docstring in re.findall(r'""".*?"""', code, re.S):
                 code = code.replace(docstring, "")
             self.assertEqual(set(re.findall(r"\w+", code)) & BARRED_WORDS, set(), path.name)
+
+    def test_iter_stands_in_the_one_form(self):
+        for name, tree in self.each():
+            for node in ast.walk(tree):
+                if isinstance(node, ast.FunctionDef) and node.name == "__iter__":
+                    self.assertEqual(len(node.body), 1)
+                    self.assertRegex(ast.unparse(node.body[0]), r"^return iter\(self\._[a-z]+\)$")
+            called = [node for node in ast.walk(tree) if isinstance(node, ast.Name) and node.id == "iter"]
+            methods = [node for node in functions_of(tree) if node.name == "__iter__"]
+            self.assertEqual(len(called), len(methods), name)
+
+    def test_products_and_generators_are_iterated_at_once(self):
+        generators = set()
+        for _, tree in self.each():
+            for function in functions_of(tree):
+                if any([isinstance(node, ast.Yield) for node in ast.walk(function)]):
+                    generators.add(function.name)
+                    for node in ast.walk(function):
+                        self.assertNotIn(getattr(node, "id", ""), LIBRARY["itertools"], function.name)
+        for name, tree in self.each():
+            self.assertNotIn("__len__", [function.name for function in functions_of(tree)])
+            used = set()
+            for node in ast.walk(tree):
+                heads = [node.iter] if isinstance(node, (ast.For, ast.comprehension)) else []
+                if isinstance(node, ast.Call) and isinstance(node.func, ast.Name) and node.func.id == "list":
+                    heads = node.args
+                used |= {id(head) for head in heads}
+            for node in ast.walk(tree):
+                if isinstance(node, ast.Call) and isinstance(node.func, ast.Name):
+                    if node.func.id in generators or node.func.id in LIBRARY["itertools"]:
+                        self.assertIn(id(node), used, (name, node.lineno))
+
+    def test_operators_and_properties_assign_no_attribute(self):
+        for name, tree in self.each():
+            for function in functions_of(tree):
+                decorators = [ast.unparse(decorator) for decorator in function.decorator_list]
+                if "property" in decorators or (function.name.startswith("__") and function.name != "__init__"):
+                    for node in ast.walk(function):
+                        if isinstance(node, (ast.Attribute, ast.Subscript)):
+                            self.assertIsInstance(node.ctx, ast.Load, (name, function.name))
 
     def test_every_error_that_is_caught_is_named(self):
         for name, tree in self.each():

@@ -24,11 +24,57 @@ FUNCTIONS = {
                "span_certificate(count, claims, moment, *, liars=())",
                "is_span_certificate(count, claims, moment, value, *, liars=())",
                "all_bounds(count, claims, *, liars=())"],
+    "notes": ["is_note(value)", "require_sound(net, notes)", "clock_of(note)", "reading_of(note)",
+              "readings_of(notes, clock)", "messages_of(notes)", "lost_tags(notes)", "double_tags(notes)",
+              "round_trip(stamps)", "plain_offset(stamps)", "offset_span(stamps, forth, back)",
+              "exchange_notes(stamps, client, server, *, tag=1)", "exchanges_of(notes, client, server)"],
+    "claims": ["is_claim(value)", "claims_of(net, notes)", "owners_of(claims)"],
+    "liars": ["small_sets(names, most)", "excuses(count, claims, names, most)",
+              "least_excuses(count, claims, names, most)", "roles(count, claims, names, most)",
+              "least_count(count, claims, names)", "case_against(count, claims, names, most, *, liars=())",
+              "is_case(claims, names, most, value, *, liars=())"],
+    "verdicts": ["pinned(claims, moment, at)", "left_by(count, claims, names, most, moment)",
+                 "verdict_span(count, claims, names, most, moment)",
+                 "left_certificate(count, claims, names, most, moment)",
+                 "is_left_certificate(count, claims, names, most, moment, value)",
+                 "time_certificate(count, claims, names, most, moment, at)",
+                 "is_time_certificate(count, claims, names, most, moment, at, value)",
+                 "role_certificate(count, claims, names, most, name)",
+                 "is_role_certificate(count, claims, names, most, name, value)",
+                 "least_certificate(count, claims, names)", "is_least_certificate(count, claims, names, value)"],
+    "choosing": ["depth_at(votes, t)", "met_by(votes, number)", "most_met(votes)", "outliers(votes, most)",
+                 "thinned(votes, *, keep=3)", "weighed(votes)", "choose(votes, most, *, keep=3)",
+                 "choice_error(votes, most, *, keep=3)", "claims_of_votes(votes, moment)",
+                 "alone_votes(count, claims, names, moment)", "plain_cover(count, claims, names, most, moment)",
+                 "compare_at(count, claims, names, most, moment, at)"],
+    "layers": ["settled(roots, offers)", "is_settled(roots, offers, value)",
+               "layered_net(layers, *, slow=(1, 1), fast=(1, 1))"],
+    "machine": ["final_course(play, name)", "run(play)", "true_liars(play)",
+                "keeps_promise(net, name, course, *, start, end)",
+                "pilot(play, name, *, error, slew, step_over=None)"],
     "steering": ["drift_between(slow, fast)", "bound_after(bound, half, *, lap, slew, drift)",
                  "laps_until(bound, half, goal, *, lap, slew, drift)"],
 }
 
 CLASSES = {
+    ("covers", "Cover"): {
+        "__init__": "(self, spans=())", "__iter__": "(self)", "__or__": "(self, other)", "__and__": "(self, other)",
+        "__add__": "(self, other)", "count": "(self)", "holds": "(self, t)", "hull_span": "(self)",
+        "inside": "(self, other)", "nearest": "(self, t)", "measure": "(self)",
+    },
+    ("plays", "Play"): {
+        "__init__": "(self, net, *, most=0)", "base_net": "(self)", "set_truth": "(self, name, course)",
+        "truths": "(self)", "truth_of": "(self, name)", "add_send": "(self, tag, start, goal, *, at, delay)",
+        "add_again": "(self, tag, *, delay)", "add_mark": "(self, name, *, at)",
+        "add_step": "(self, name, *, at, jump)", "add_slew": "(self, name, *, at, rate)", "deeds": "(self)",
+    },
+    ("layers", "Layers"): {
+        "__init__": "(self)", "add_root": "(self, name, *, error=(0, 1))", "add_server": "(self, name)",
+        "offer": "(self, child, parent, *, hop=(0, 1))", "withdraw": "(self, child, parent)",
+        "silence": "(self, name)", "wake": "(self, name)", "condemn": "(self, name)", "state_of": "(self, name)",
+        "error_of": "(self, name)", "layer_of": "(self, name)", "parent_of": "(self, name)", "way_of": "(self, name)",
+        "followers_of": "(self, name)", "names": "(self)", "table": "(self)", "clone": "(self)",
+    },
     ("nets", "Net"): {
         "__init__": "(self)",
         "add_clock": "(self, name, *, slow=(1, 1), fast=(1, 1), error=None)",
@@ -66,8 +112,11 @@ class InterfaceTest(unittest.TestCase):
                 self.assertIn(method, vars(kind))
                 self.assertEqual(str(inspect.signature(vars(kind)[method])), wanted, method)
 
-    def test_the_aim_is_a_property(self):
-        self.assertIsInstance(vars(module_of("steering").Steering)["aim"], property)
+    def test_properties_and_the_static_method(self):
+        for file, name, part in [("steering", "Steering", "aim"), ("covers", "Cover", "empty"),
+                                 ("plays", "Play", "liar_limit")]:
+            self.assertIsInstance(vars(getattr(module_of(file), name))[part], property)
+        self.assertIsInstance(vars(module_of("covers").Cover)["everything"], staticmethod)
 
 
 if __name__ == "__main__":
