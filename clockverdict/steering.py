@@ -3,7 +3,7 @@
 from clockverdict.courses import require_rates, shown_at, tidy
 from clockverdict.errors import BadBound, BadRate, TurnsBack
 from clockverdict.exact import HALF, ONE, ZERO, add, compare, distance, divide, floor_of, larger
-from clockverdict.exact import multiply, negate, subtract
+from clockverdict.exact import multiply, subtract
 from clockverdict.spans import far_end, meet, middle_of, width_of
 
 

@@ -75,13 +75,22 @@ def _is_world_side(count, claims, sets, value):
     return kind == "world" and excuse in sets and is_world(count, claims, world, liars=excuse)
 
 
+def _rings_against(count, claims, names, most, liars):
+    """A case, or None; the empty list if most is below zero, since no liar set is left to speak against then."""
+    return [] if most < 0 else case_against(count, claims, names, most, liars=liars)
+
+
+def _are_rings_against(claims, names, most, value, liars):
+    """True if value is a case, or the empty list if most is below zero."""
+    return value == [] if most < 0 else is_case(claims, names, most, value, liars=liars)
+
+
 def _is_case_side(claims, names, most, value, liars):
-    """True if value is ("case", rings) with a case, or with the empty list if most is below 0."""
-    if not isinstance(value, tuple) or len(value) != 2 or value[0] != "case":
+    """True if value is ("case", rings)."""
+    if not isinstance(value, tuple) or len(value) != 2:
         return False
-    if most < 0:
-        return value[1] == []
-    return is_case(claims, names, most, value[1], liars=liars)
+    kind, rings = value
+    return kind == "case" and _are_rings_against(claims, names, most, rings, liars)
 
 
 def time_certificate(count, claims, names, most, moment, at):
@@ -100,14 +109,22 @@ def is_time_certificate(count, claims, names, most, moment, at, value):
     return _is_world_side(count, fixed, sets, value) or _is_case_side(fixed, names, most, value, ())
 
 
-def _parted_sets(names, most, name):
-    """The liar sets that the suspect is in, and those that it is not in."""
-    sets = list(small_sets(names, most))
-    return ([chosen for chosen in sets if name in chosen], [chosen for chosen in sets if name not in chosen])
-
-
 def _others(names, name):
     return [other for other in names if other != name]
+
+
+def _sides_of(names, most, name):
+    """For the suspect as a liar, and as none: the liar sets, and most and liars of a case against the others."""
+    sets = list(small_sets(names, most))
+    return (([chosen for chosen in sets if name in chosen], most - 1, (name,)),
+            ([chosen for chosen in sets if name not in chosen], most, ()))
+
+
+def _role_side(count, claims, others, side):
+    """A side of a role certificate."""
+    sets, limit, liars = side
+    found = _world_side(count, claims, sets)
+    return ("case", _rings_against(count, claims, others, limit, liars)) if found is None else found
 
 
 def role_certificate(count, claims, names, most, name):
@@ -115,36 +132,31 @@ def role_certificate(count, claims, names, most, name):
     if name not in names:
         raise UnknownName(name)
     others = _others(names, name)
-    with_sets, without_sets = _parted_sets(names, most, name)
-    with_side = _world_side(count, claims, with_sets)
-    without_side = _world_side(count, claims, without_sets)
-    if with_side is None and without_side is None:
+    with_side, without_side = [_role_side(count, claims, others, side) for side in _sides_of(names, most, name)]
+    kinds = (with_side[0], without_side[0])
+    if kinds not in _ROLES:
         raise TooManyLiars(case_against(count, claims, names, most))
-    if with_side is None:
-        rings = [] if most == 0 else case_against(count, claims, others, most - 1, liars=(name,))
-        with_side = ("case", rings)
-    if without_side is None:
-        without_side = ("case", case_against(count, claims, others, most))
-    return (_ROLES[(with_side[0], without_side[0])], with_side, without_side)
+    return (_ROLES[kinds], with_side, without_side)
+
+
+def _side_kind(count, claims, others, side, value):
+    """The kind "world" or "case" if value is such a side of a role certificate, otherwise None."""
+    sets, limit, liars = side
+    if _is_world_side(count, claims, sets, value):
+        return "world"
+    return "case" if _is_case_side(claims, others, limit, value, liars) else None
 
 
 def is_role_certificate(count, claims, names, most, name, value):
     """True if value is a certificate of the suspect's role."""
     if not isinstance(value, tuple) or len(value) != 3:
         return False
-    role, with_side, without_side = value
     others = _others(names, name)
-    with_sets, without_sets = _parted_sets(names, most, name)
-    kinds = []
-    for sets, side, limit, liars in ((with_sets, with_side, most - 1, (name,)), (without_sets, without_side, most, ())):
-        if _is_world_side(count, claims, sets, side):
-            kinds.append("world")
-        elif _is_case_side(claims, others, limit, side, liars):
-            kinds.append("case")
-        else:
-            return False
-    shown = tuple(kinds)
-    return shown in _ROLES and _ROLES[shown] == role
+    with_form, without_form = _sides_of(names, most, name)
+    role, with_side, without_side = value
+    kinds = (_side_kind(count, claims, others, with_form, with_side),
+             _side_kind(count, claims, others, without_form, without_side))
+    return kinds in _ROLES and _ROLES[kinds] == role
 
 
 def least_certificate(count, claims, names):
@@ -155,8 +167,7 @@ def least_certificate(count, claims, names):
         return (None, (), [], case_against(count, claims, names, len(names)))
     excuse, world = found
     number = len(excuse)
-    rings = [] if number == 0 else case_against(count, claims, names, number - 1)
-    return (number, excuse, world, rings)
+    return (number, excuse, world, _rings_against(count, claims, names, number - 1, ()))
 
 
 def is_least_certificate(count, claims, names, value):
@@ -166,9 +177,8 @@ def is_least_certificate(count, claims, names, value):
     number, excuse, world, rings = value
     if number is None:
         return excuse == () and world == [] and is_case(claims, names, len(names), rings)
-    if not is_whole(number) or number < 0:
+    if not is_whole(number) or not 0 <= number <= len(names) or excuse not in largest_sets(names, number):
         return False
-    sets = [chosen for chosen in largest_sets(names, number) if len(chosen) == number]
-    if excuse not in sets or not is_world(count, claims, world, liars=excuse):
+    if not is_world(count, claims, world, liars=excuse):
         return False
-    return rings == [] if number == 0 else is_case(claims, names, number - 1, rings)
+    return _are_rings_against(claims, names, number - 1, rings, ())
