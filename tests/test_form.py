@@ -148,12 +148,23 @@ class FormTest(unittest.TestCase):
                 self.assertIsInstance(node, (ast.ImportFrom, ast.FunctionDef, ast.ClassDef, ast.Assign))
                 if isinstance(node, ast.Assign):
                     self.assertEqual(len(node.targets), 1)
-                    ast.literal_eval(node.value)
+                    self.check_plain(node.value, tree.body[:place])
                 bound = [alias.name for alias in node.names] if isinstance(node, ast.ImportFrom) else [
                     node.targets[0].id if isinstance(node, ast.Assign) else node.name]
                 for one in bound:
                     self.assertNotIn(one, seen, name)
                     seen.add(one)
+
+    def check_plain(self, value, above):
+        """A value written out, of literals and of functions that are defined above it; no list or dict within another."""
+        functions = [node.name for node in above if isinstance(node, ast.FunctionDef)]
+        for node in ast.walk(value):
+            if isinstance(node, ast.Name):
+                self.assertIn(node.id, functions)
+            elif not isinstance(node, ast.expr_context):
+                self.assertIsInstance(node, (ast.Constant, ast.Tuple, ast.List, ast.Dict, ast.UnaryOp, ast.USub))
+            if node is not value:
+                self.assertNotIsInstance(node, (ast.List, ast.Dict))
 
     def test_kinds_of_statements_and_expressions(self):
         for name, tree in self.each():
@@ -177,9 +188,11 @@ class FormTest(unittest.TestCase):
                     self.assertIsNone(node.annotation)
 
     def test_strings(self):
-        for path in FILES:
-            self.assertNotIn("%", path.read_text(), path.name)
-            self.assertNotIn("\t", path.read_text(), path.name)
+        for name, tree in self.each():
+            for node in ast.walk(tree):
+                if isinstance(node, ast.Constant) and isinstance(node.value, str):
+                    self.assertNotIn("%", node.value, (name, node.lineno))
+                    self.assertNotIn("\t", node.value, (name, node.lineno))
 
     def test_names(self):
         for name, tree in self.each():
