@@ -69,7 +69,7 @@ def keeps_promise(net, name, course, *, start, end):
     return runs_within(course, slow, fast)
 
 
-def _span_at(net, notes, suspects, most):
+def last_span(net, notes, suspects, most):
     """The verdict span of the moment of the last note."""
     moment = len(notes)
     return verdict_span(moment + 1, claims_of(net, notes), suspects, most, moment)
@@ -88,6 +88,6 @@ def pilot(play, name, *, error, slew, step_over=None):
     steering = Steering(first, first, error, slew=slew, drift=drift_between(slow, fast), step_over=step_over)
     told = []
     for place, reading in marks:
-        steering.steer(reading, _span_at(net, notes[:place], suspects, play.liar_limit))
+        steering.steer(reading, last_span(net, notes[:place], suspects, play.liar_limit))
         told.append((place, reading, steering.display(reading), steering.error_at(reading)))
     return told

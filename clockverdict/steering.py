@@ -13,7 +13,8 @@ def drift_between(slow, fast):
     return larger(distance(ONE, divide(ONE, fast)), distance(ONE, divide(ONE, slow)))
 
 
-def _require_not_below_zero(bound):
+def require_not_below_zero(bound):
+    """Raises BadBound for a bound below zero."""
     if compare(bound, ZERO) < 0:
         raise BadBound(bound)
 
@@ -26,8 +27,8 @@ def _require_slew_and_drift(slew, drift):
 
 
 def _require_lap(bound, half, lap, slew, drift):
-    _require_not_below_zero(bound)
-    _require_not_below_zero(half)
+    require_not_below_zero(bound)
+    require_not_below_zero(half)
     if compare(lap, ZERO) <= 0:
         raise BadBound(lap)
     _require_slew_and_drift(slew, drift)
@@ -71,10 +72,10 @@ class Steering:
     """A steering that begins at a raw reading with a display and the first error."""
 
     def __init__(self, raw, shown, error, *, slew, drift=(0, 1), step_over=None):
-        _require_not_below_zero(error)
+        require_not_below_zero(error)
         _require_slew_and_drift(slew, drift)
         if step_over is not None:
-            _require_not_below_zero(step_over)
+            require_not_below_zero(step_over)
         self._slew = slew
         self._drift = drift
         self._step_over = step_over

@@ -52,6 +52,25 @@ FUNCTIONS = {
     "machine": ["final_course(play, name)", "run(play)", "true_liars(play)",
                 "keeps_promise(net, name, course, *, start, end)",
                 "pilot(play, name, *, error, slew, step_over=None)"],
+    "days": ["is_date(value)", "is_leap_year(value)", "day_of(year, month, day)", "date_of(day)", "date_text(day)",
+             "read_date(text)"],
+    "leaps": ["label_text(leaps, t)", "read_label(leaps, text)"],
+    "seals": ["seal_of(key, counter, cells)", "sealed_entry(key, sender, counter, cells)", "is_sealed(key, value)",
+              "cells_of(note)", "note_of(cells)", "seal_notes(keys, notes)", "open_entries(keys, entries)"],
+    "wording": ["read_play(text)", "print_play(play)"],
+    "audits": ["audit(net, notes, most, *, trusted=())", "is_audit(net, notes, most, value, *, trusted=())",
+               "audit_entries(net, keys, entries, most, *, trusted=())", "condemn_liars(layers, verdicts)",
+               "true_times_left(play, *, trusted=())"],
+    "journals": ["replay(net, log, *, most=0, trusted=())"],
+    "twins": ["boxed(count, claims, low, high)", "grid_worlds(count, claims, low, high, *, liars=())",
+              "grid_times(count, claims, names, most, moment, low, high)"],
+    "asking": ["planned(net, notes, server, asker, *, stamp, reading)",
+               "span_now(net, notes, most, asker, *, reading, trusted=())",
+               "span_after(net, notes, most, server, asker, *, stamp, reading, trusted=())",
+               "worst_width(net, notes, most, server, asker, *, stamps, reading, trusted=())",
+               "best_plan(net, notes, most, asker, plans, *, reading, trusted=())",
+               "promised_width(net, notes, server, asker, *, reading)", "worst_stamp(net, notes, server, asker, *, reading)",
+               "best_server(net, notes, asker, *, reading)"],
     "steering": ["drift_between(slow, fast)", "bound_after(bound, half, *, lap, slew, drift)",
                  "laps_until(bound, half, goal, *, lap, slew, drift)"],
 }
@@ -74,6 +93,26 @@ CLASSES = {
         "silence": "(self, name)", "wake": "(self, name)", "condemn": "(self, name)", "state_of": "(self, name)",
         "error_of": "(self, name)", "layer_of": "(self, name)", "parent_of": "(self, name)", "way_of": "(self, name)",
         "followers_of": "(self, name)", "names": "(self)", "table": "(self)", "clone": "(self)",
+    },
+    ("leaps", "Leaps"): {
+        "__init__": "(self, rows=())", "__iter__": "(self)", "length_of": "(self, day)", "start_of": "(self, day)",
+        "label_of": "(self, t)", "time_of": "(self, day, second, part=(0, 1))",
+        "smeared": "(self, t, *, window=7200)", "unsmeared": "(self, reading, *, window=7200)",
+        "smear_course": "(self, first, last, *, window=7200)",
+    },
+    ("seals", "Gate"): {
+        "__init__": "(self, keys)", "examine": "(self, entries)", "admit_all": "(self, entries)",
+        "admit": "(self, entry)", "seen": "(self, sender)", "missing": "(self, sender)",
+    },
+    ("journals", "Journal"): {
+        "__init__": "(self, net, *, most=0, trusted=())", "write": "(self, note, *, final=False)", "undo": "(self)",
+        "redo": "(self)", "close": "(self)", "notes": "(self)", "log": "(self)", "left": "(self, moment)",
+        "told": "(self, moment)", "plain": "(self, moment)", "roles": "(self)", "least": "(self)",
+    },
+    ("arbiter", "Arbiter"): {
+        "__init__": "(self, net, layers, keys, *, own, most=0, slew, error, step_over=None)", "hear": "(self, entries)",
+        "tick": "(self, reading)", "notes": "(self)", "roles": "(self)", "display": "(self, raw)", "leader": "(self)",
+        "table": "(self)",
     },
     ("nets", "Net"): {
         "__init__": "(self)",
@@ -117,6 +156,10 @@ class InterfaceTest(unittest.TestCase):
                                  ("plays", "Play", "liar_limit")]:
             self.assertIsInstance(vars(getattr(module_of(file), name))[part], property)
         self.assertIsInstance(vars(module_of("covers").Cover)["everything"], staticmethod)
+
+    def test_values_that_stand_under_a_name(self):
+        self.assertEqual(repr(vars(module_of("leaps").Leaps)["DAY"]), "86400")
+        self.assertEqual(repr(module_of("seals").MODULUS), "2147483647")
 
 
 if __name__ == "__main__":
