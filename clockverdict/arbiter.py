@@ -1,7 +1,7 @@
 """Arbiters: one clock that hears the notes of all, tells the time by them, and condemns liars."""
 
 from clockverdict.audits import condemn_liars
-from clockverdict.errors import BadRate, BeforeStart, TurnsBack, UnknownName
+from clockverdict.errors import BadRate, BeforeStart, TurnsBack
 from clockverdict.exact import ONE, compare
 from clockverdict.journals import Journal
 from clockverdict.notes import require_sound
@@ -10,6 +10,7 @@ from clockverdict.steering import Steering, drift_between, require_not_below_zer
 
 
 def _drift_of(net, name):
+    """The drift of a clock; raises UnknownName if the net does not have it."""
     slow, fast = net.rates_of(name)
     return drift_between(slow, fast)
 
@@ -23,8 +24,6 @@ class Arbiter:
     """An arbiter at its own clock, with copies of the net, the layers and the keys."""
 
     def __init__(self, net, layers, keys, *, own, most=0, slew, error, step_over=None):
-        if own not in net.names():
-            raise UnknownName(own)
         _require_slew(slew, _drift_of(net, own))
         require_not_below_zero(error)
         if step_over is not None:

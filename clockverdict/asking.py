@@ -84,8 +84,6 @@ def _is_less(width, other):
 def best_plan(net, notes, most, asker, plans, *, reading, trusted=()):
     """The index of the best plan, or None."""
     _require_asker(net, notes, asker)
-    for server, stamps in plans:
-        _require_link(net, notes, server, asker)
     best = None
     least = None
     for at, (server, stamps) in enumerate(plans):

@@ -128,17 +128,13 @@ def label_text(leaps, t):
 
 
 def _second_in(text):
-    """The second with this time of day, or None."""
-    if text == _LEAP_SECOND:
-        return Leaps.DAY
+    """The second with this time of day, of a day with or without a leap, or None."""
     hours, minutes, seconds = number_in(text[:2]), number_in(text[3:5]), number_in(text[6:])
     if hours is None or minutes is None or seconds is None:
         return None
     second = 3600 * hours + 60 * minutes + seconds
-    # Only the time of day of a second within a plain day gives its text back: no 24:00:00, no 12:60:00.
-    if second >= Leaps.DAY or _second_text(second) != text:
-        return None
-    return second
+    # A text such as 12:60:00 or 24:00:00 is not the one of its second.
+    return second if _second_text(second) == text else None
 
 
 def _part_in(text):

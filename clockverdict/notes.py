@@ -8,7 +8,8 @@ from clockverdict.spans import meet, shift
 _LAST_TAG = 9999
 
 
-def _is_tag(value):
+def is_tag(value):
+    """True if value is an integer from 1 to 9999."""
     return is_whole(value) and 1 <= value <= _LAST_TAG
 
 
@@ -20,7 +21,7 @@ def is_note(value):
         kind, clock, reading = value
         return kind == "mark" and is_name(clock) and is_rational(reading)
     kind, tag, clock, reading = value[:4]
-    if not _is_tag(tag) or not is_name(clock) or not is_rational(reading):
+    if not is_tag(tag) or not is_name(clock) or not is_rational(reading):
         return False
     if len(value) == 4:
         return kind == "got"

@@ -1,12 +1,12 @@
 """The text of a play: how it is read, and how a play is printed."""
 
 from clockverdict.errors import BadLine, BadNumber
-from clockverdict.exact import ONE, ZERO, compare, rational_text, read_rational
+from clockverdict.exact import ZERO, compare, rational_text, read_rational
 from clockverdict.nets import Net, is_name
+from clockverdict.notes import is_tag
 from clockverdict.plays import Play
 from clockverdict.spans import span_holds
 
-_LAST_TAG = 9999
 _LIMITS = ("0", "1", "2", "3")
 
 # What a check gives for a bad word. The value of a good word is never an empty tuple.
@@ -39,8 +39,8 @@ def _number_from(low, word):
 
 
 def _tag(word):
-    value = _number_from(ONE, word)
-    return value[0] if value != _BAD and value[1] == 1 and value[0] <= _LAST_TAG else _BAD
+    value = _number(word)
+    return value[0] if value != _BAD and value[1] == 1 and is_tag(value[0]) else _BAD
 
 
 def _first_start(draft, name):

@@ -208,6 +208,21 @@ class WorstWidthTest(unittest.TestCase):
         notes = [("mark", "s", (0, 1)), ("sent", 1, "s", (9, 1), "a")]
         self.assertEqual(self.check(net, notes, 0, "s", "a", [(9, 1), (20, 1)], (5, 1)), ("open", None))
 
+    def test_a_width_behind_an_open_one(self):
+        # Where s is honest, which only the stamp 3 allows, the arrival is open; where s lies, t bounds it.
+        net = Net()
+        net.add_clock("a")
+        net.add_clock("s", slow=(2, 1), fast=(2, 1), error=(0, 1))
+        net.add_clock("t", error=(1, 1))
+        net.add_link("s", "a")
+        net.add_link("t", "a", high=(1, 1))
+        notes = [("mark", "s", (3, 1)), ("sent", 1, "t", (10, 1), "a"), ("got", 1, "a", (20, 1))]
+        check = lambda *stamps: self.check(net, notes, 1, "s", "a", list(stamps), (21, 1), ["a"])
+        self.assertEqual(check((3, 1)), ("open", None))
+        self.assertEqual(check((4, 1)), ("width", (3, 1)))
+        self.assertEqual(check((3, 1), (4, 1)), ("open", None))
+        self.assertEqual(check((4, 1), (3, 1)), ("open", None))
+
     def test_many(self):
         rng = random.Random(73)
         kinds = {"never": 0, "open": 0, "width": 0}
